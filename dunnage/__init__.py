@@ -1,0 +1,1 @@
+"""Dunnage: stacks of boards that stand, or come down."""
