@@ -32,3 +32,25 @@ def times(a, b):
 def less(a, b):
     # Both bottoms are above nought, so multiplying by them turns no order round.
     return a[0] * b[1] < b[0] * a[1]
+
+
+# Lowest terms cost far more than the sums themselves, so long sums go without them until something is told.
+
+
+def raw_sum(pairs):
+    """All pairs (top, bottom), the bottoms above nought, together: such a pair, not in lowest terms."""
+    top, bottom = 0, 1
+    for pair in pairs:
+        if bottom % pair[1] == 0:
+            top += pair[0] * (bottom // pair[1])
+        else:
+            top, bottom = top * pair[1] + pair[0] * bottom, bottom * pair[1]
+    return (top, bottom)
+
+
+def raw_product(a, b):
+    return (a[0] * b[0], a[1] * b[1])
+
+
+def opposite(a):
+    return (-a[0], a[1])

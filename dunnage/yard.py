@@ -67,6 +67,12 @@ def board_row(yard, name):
     return yard.board_rows[name]
 
 
+def trestle_row(yard, name):
+    if name not in yard.trestle_rows:
+        raise NoThing(f"there is no trestle {name!r}")
+    return yard.trestle_rows[name]
+
+
 def board_or_trestle_row(yard, name):
     if name in yard.trestle_rows:
         return yard.trestle_rows[name]
@@ -79,6 +85,12 @@ def sack_row(yard, name):
     if name not in yard.sack_rows:
         raise NoSack(f"there is no sack {name!r}")
     return yard.sack_rows[name]
+
+
+def cord_row(yard, name):
+    if name not in yard.cord_rows:
+        raise NoCord(f"there is no cord {name!r}")
+    return yard.cord_rows[name]
 
 
 def check_no_cord(yard, name):
@@ -179,8 +191,7 @@ def tie_cord(yard, name, upper, lower, place):
 
 
 def cut_cord(yard, name):
-    if name not in yard.cord_rows:
-        raise NoCord(f"there is no cord {name!r}")
+    cord_row(yard, name)
     del yard.cord_rows[name]
 
 

@@ -1,4 +1,6 @@
-"""What several tests use: asking a yard, deeds of all kinds, and a plain model to compare with."""
+"""What several tests use: asking a yard, deeds of all kinds, a plain model to compare with, stacks, and plain sums."""
+
+from fractions import Fraction
 
 from dunnage import errors
 from dunnage.yard import Yard
@@ -233,3 +235,233 @@ def any_deed(chance, model, names):
         ("move", pick(sacks, list(names) + BAD_NAMES), board, place),
         ("lift", pick(sacks, list(names) + BAD_NAMES)), ("cut", pick(cords, list(names) + BAD_NAMES)),
     ])
+
+
+# Stacks of boards: rows of deeds, all of which a yard does.
+
+
+def stack_deeds(chance, boards=4, trestles=3, sacks=4, cords=2, weights=(1, 2, 3, 7, 40)):
+    """Deeds by which boards are laid on what is there; near nought, far off, or wide."""
+    scale, offset = chance.choice([(1, 0), (1, 0), (2, -7), (1, 999900), (3, -999000), (20000, 0), (9973, 31)])
+    names = list(chance.choice(["abcdefghijklmnopqrstuvwxyz", "zyxwvutsrqponmlkjihgfedcba"]))
+    chance.shuffle(names)
+    yard, deeds = Yard(), []
+
+    def place(small):
+        return offset + scale * small
+
+    def add(deed):
+        if refusal(yard, deed) is None:
+            deeds.append(deed)
+            names.remove(deed[1])
+
+    def tread(course, low):
+        left = low + chance.randrange(-3, 4)
+        add(("trestle", names[-1], course, place(left), place(left + chance.choice([0, 0, 1, 3]))))
+
+    def weight():
+        return chance.choice(weights)
+
+    for at in range(chance.randint(1, trestles)):
+        tread(chance.choice([1, 1, 1, 2]), 8 * at)
+    target = chance.randint(1, boards)
+    for turn in range(4 * target):
+        if len(yard.boards()) < target:
+            lay(chance, yard, add, names, scale, weight())
+        if yard.boards() and chance.random() < 0.08:
+            row = chance.choice(yard.boards())
+            tread(row[1] + 1, (chance.choice([row[2], row[3]]) - offset) // scale)
+    rows = yard.boards()
+    for turn in range(chance.randint(0, sacks) if rows else 0):
+        row = chance.choice(rows)
+        add(("sack", names[-1], row[0], chance.choice([row[2], row[3], (row[2] + row[3]) // 2]), weight()))
+    for turn in range(chance.randint(0, cords) if rows else 0):
+        lower = chance.choice(rows)
+        upper = chance.choice([("", 0, lower[2], lower[3]), *rows])
+        spots = [max(upper[2], lower[2]), min(upper[3], lower[3])]
+        add(("cord", names[-1], upper[0], lower[0], chance.choice([*spots, sum(spots) // 2])))
+    return deeds
+
+
+def lay(chance, yard, add, names, scale, weight):
+    """Lay one board on one thing that is there, or over two of one course."""
+    rows = yard.boards() + yard.trestles()
+    under = chance.choice(rows)
+    same = [row for row in rows if row[1] == under[1]]
+    other = chance.choice(same) if chance.random() < 0.7 else under
+    left = min(under[2], other[2]) + scale * chance.choice([-4, -2, -1, 0, 0, 1])
+    right = max(under[3], other[3]) + scale * chance.choice([4, 2, 1, 0, 0, -1])
+    add(("board", names[-1], under[1] + 1, left, right, weight))
+
+
+def any_stack(chance, **most):
+    return yard_of(*stack_deeds(chance, **most))
+
+
+def all_asked(yard, chance):
+    """All that may be asked for of the yard; a weight at one place of each board."""
+    asked = []
+    for name, course, left, right, weight in yard.boards():
+        asked.append(("weight", name, chance.choice([left, right, (left + right) // 2, chance.randint(left, right)])))
+    asked += [("move", row[0]) for row in yard.sacks()]
+    asked += [("trestle", row[0]) for row in yard.trestles()]
+    return asked + [("cord", row[0]) for row in yard.cords()]
+
+
+# Plain sums, in fractions, straight from the words of DOC.md [3] to [13].
+
+
+def worth(part):
+    """A told part as a fraction; it is a tuple of two numbers in lowest terms."""
+    assert type(part) is tuple and [type(number) for number in part] == [int, int], part
+    fraction = Fraction(*part)
+    assert (fraction.numerator, fraction.denominator) == part, part
+    return fraction
+
+
+def as_part(number):
+    fraction = Fraction(number)
+    return (fraction.numerator, fraction.denominator)
+
+
+def own_ends(yard):
+    rows = []
+    fast = [row[0] for row in yard.trestles()]
+    things = [row[:4] for row in yard.boards() + yard.trestles()]
+    for upper, high, first, last in things:
+        for lower, low, left, right in things:
+            if high - low != 1 or (upper in fast and lower in fast):
+                continue
+            common = [place for place in (first, last, left, right) if max(first, left) <= place <= min(last, right)]
+            rows += [("", upper, lower, place) for place in set(common)]
+    rows.sort(key=lambda row: (row[1], row[2], row[3]))
+    return rows + [(name, upper, lower, place) for name, upper, lower, place in yard.cords()]
+
+
+def own_weights(yard):
+    rows = [(name, Fraction(left + right, 2), Fraction(weight)) for name, course, left, right, weight in yard.boards()]
+    return rows + [(board, Fraction(place), Fraction(weight)) for name, board, place, weight in yard.sacks()]
+
+
+def own_load(yard, pushes):
+    """For each board what the pushes carry on it: [their sum, their sum each taken as often as its place tells]."""
+    load = {row[0]: [Fraction(0), Fraction(0)] for row in yard.boards()}
+    for what, upper, lower, place, push in pushes:
+        by = worth(push)
+        for thing, sign in [(upper, 1), (lower, -1)]:
+            if thing in load:
+                turned = sign if what == "" else -sign
+                load[thing][0] += turned * by
+                load[thing][1] += turned * by * place
+    return load
+
+
+def own_holds(yard, pushes, weights):
+    """Whether the pushes hold the weights, which are rows (board, place, weight) in fractions."""
+    if [row[:4] for row in pushes] != own_ends(yard) or any(worth(row[4]) < 0 for row in pushes):
+        return False
+    load = own_load(yard, pushes)
+    for board, place, weight in weights:
+        load[board][0] -= weight
+        load[board][1] -= weight * place
+    return all(sums == [0, 0] for sums in load.values())
+
+
+def own_rise(motion, thing, place):
+    for board, rise, tilt in motion:
+        if board == thing:
+            return worth(rise) + worth(tilt) * place
+    return Fraction(0)
+
+
+def own_spread(motion, end):
+    what, upper, lower, place = end
+    by = own_rise(motion, upper, place) - own_rise(motion, lower, place)
+    return by if what == "" else -by
+
+
+def own_lifts(motion, weights):
+    return sum((weight * own_rise(motion, board, place) for board, place, weight in weights), Fraction(0))
+
+
+def own_motion(yard, motion):
+    return [row[0] for row in motion] == [row[0] for row in yard.boards()]
+
+
+def own_let(yard, motion):
+    return own_motion(yard, motion) and all(own_spread(motion, end) >= 0 for end in own_ends(yard))
+
+
+def weights_with(yard, asked, amount):
+    """The yard's weights where the amount asked for is just this one."""
+    rows = own_weights(yard)
+    if asked[0] == "weight":
+        return rows + [(asked[1], Fraction(asked[2]), amount)]
+    if asked[0] == "move":
+        at = len(yard.boards()) + [row[0] for row in yard.sacks()].index(asked[1])
+        rows[at] = (rows[at][0], amount, rows[at][2])
+    return rows
+
+
+def asked_ends(yard, asked):
+    """The places of the ends that belong to what is asked for, in the list of all ends."""
+    rows = own_ends(yard)
+    if asked[0] == "trestle":
+        return [at for at, row in enumerate(rows) if asked[1] in (row[1], row[2])]
+    return [at for at, row in enumerate(rows) if asked[0] == "cord" and row[0] == asked[1]]
+
+
+def own_judge(yard, asked, way, motion, stop):
+    """What a paper shows, the way `most` or `least`, or whether it bars, the way `none`."""
+    one = {"most": 1, "least": -1, "none": 0}[way]
+    by = worth(stop)
+    wrong = False if way == "none" else None
+    if not own_motion(yard, motion) or by < 0 or (by and asked[0] != "move"):
+        return wrong
+    chosen = asked_ends(yard, asked)
+    for at, end in enumerate(own_ends(yard)):
+        if own_spread(motion, end) < (one if at in chosen else 0):
+            return wrong
+    start, beyond = Fraction(0), Fraction(0)
+    if asked[0] == "weight" and own_rise(motion, asked[1], asked[2]) > -one:
+        return wrong
+    if asked[0] == "move":
+        sack = [row for row in yard.sacks() if row[0] == asked[1]][0]
+        board = [row for row in yard.boards() if row[0] == sack[1]][0]
+        tilt = own_rise(motion, board[0], 1) - own_rise(motion, board[0], 0)
+        if sack[3] * tilt > by - one:
+            return wrong
+        start, beyond = Fraction(board[2]), by * (board[3] - board[2])
+    together = own_lifts(motion, weights_with(yard, asked, start if asked[0] == "move" else Fraction(0))) + beyond
+    if way == "none":
+        return together < 0
+    return as_part(start + one * together)
+
+
+def own_grows(yard, asked, pushes):
+    if asked[0] == "move":
+        return False
+    if asked[0] == "weight":
+        return own_holds(yard, pushes, [(asked[1], Fraction(asked[2]), Fraction(1))])
+    return own_holds(yard, pushes, []) and sum(worth(pushes[at][4]) for at in asked_ends(yard, asked)) > 0
+
+
+def told_pushes(test, yard, pushes):
+    """The kinds of told pushes."""
+    test.assertIs(type(pushes), list)
+    for row in pushes:
+        test.assertIs(type(row), tuple)
+        test.assertEqual(len(row), 5)
+        test.assertGreaterEqual(worth(row[4]), 0)
+    test.assertEqual([row[:4] for row in pushes], own_ends(yard))
+
+
+def told_motion(test, yard, motion):
+    """The kinds of a told motion."""
+    test.assertIs(type(motion), list)
+    for row in motion:
+        test.assertIs(type(row), tuple)
+        test.assertEqual(len(row), 3)
+        worth(row[1])
+        worth(row[2])
+    test.assertEqual([row[0] for row in motion], [row[0] for row in yard.boards()])

@@ -1,6 +1,7 @@
 """The rules of LANGUAGE.md that a look at the files can settle."""
 
 import ast
+import builtins
 import pathlib
 import re
 import unittest
@@ -57,6 +58,34 @@ class LanguageTest(unittest.TestCase):
             name = getattr(node, "id", None) or getattr(node, "arg", None) or getattr(node, "attr", None) or node.name
             if name != "__init__":
                 self.assertRegex(name, r"\A[a-zA-Z][a-zA-Z0-9_]*\Z", where)
+
+    def test_one_meaning_for_each_name(self):
+        for name, tree in self.trees.items():
+            taken = {alias.name for node in tree.body if isinstance(node, ast.ImportFrom) for alias in node.names}
+            taken |= {node.name for node in tree.body if isinstance(node, ast.ClassDef)} | set(dir(builtins))
+            for node in ast.walk(tree):
+                if isinstance(node, ast.arg):
+                    self.assertNotIn(node.arg, taken, f"{name}:{node.lineno}")
+                if isinstance(node, ast.Name) and isinstance(node.ctx, ast.Store):
+                    self.assertNotIn(node.id, taken, f"{name}:{node.lineno}")
+
+    def test_no_method_has_an_attributes_name(self):
+        methods = {
+            method.name for where, node in self.nodes(ast.ClassDef)
+            for method in node.body if isinstance(method, ast.FunctionDef)}
+        for where, node in self.nodes(ast.Attribute):
+            if isinstance(node.ctx, ast.Store):
+                self.assertNotIn(node.attr, methods, where)
+
+    def test_no_ring_of_imports(self):
+        ahead = {
+            name[:-3]: {node.module.split(".")[1] for node in tree.body if isinstance(node, ast.ImportFrom)}
+            for name, tree in self.trees.items()}
+        while ahead:
+            free = [name for name in ahead if not ahead[name] & set(ahead)]
+            self.assertTrue(free, ahead)
+            for name in free:
+                del ahead[name]
 
     def test_statements(self):
         barred = (ast.Global, ast.AsyncFunctionDef, ast.AsyncFor, ast.AsyncWith, ast.Await, ast.Div)
