@@ -3,8 +3,8 @@
 from dunnage.errors import BadAsk, BadWay
 from dunnage.yard import board_row, check_on_board, cord_row, sack_row, trestle_row
 
-# How many things a row that asks has, its first text among them.
-COUNTS = {"weight": 3, "move": 2, "trestle": 2, "cord": 2}
+# What stands behind the first text of a row that asks.
+ASKED_THINGS = {"weight": ("name", "number"), "move": ("name",), "trestle": ("name",), "cord": ("name",)}
 
 # The amount is sought upward or downward.
 AIMS = {"most": 1, "least": -1}
@@ -12,7 +12,7 @@ AIMS = {"most": 1, "least": -1}
 
 def check_asked(yard, asked):
     """Refuse what cannot be asked for of the yard."""
-    if len(asked) == 0 or asked[0] not in COUNTS or len(asked) != COUNTS[asked[0]]:
+    if len(asked) == 0 or asked[0] not in ASKED_THINGS or len(asked) != 1 + len(ASKED_THINGS[asked[0]]):
         raise BadAsk("asked for may be a weight, a move, a trestle or a cord")
     if asked[0] == "weight":
         check_on_board(board_row(yard, asked[1]), asked[2])

@@ -8,22 +8,22 @@ FARTHEST_PLACE = 1000000
 HIGHEST_COURSE = 9
 GREATEST_WEIGHT = 1000000000
 
-# How many things a deed has, its first text among them.
-COUNTS = {
-    "trestle": 5,
-    "board": 6,
-    "away": 2,
-    "along": 3,
-    "sack": 5,
-    "move": 4,
-    "lift": 2,
-    "cord": 5,
-    "cut": 2,
+# What stands behind the first text of a deed; as a cord's upper board the beam may stand.
+DEED_THINGS = {
+    "trestle": ("name", "number", "number", "number"),
+    "board": ("name", "number", "number", "number", "number"),
+    "away": ("name",),
+    "along": ("name", "number"),
+    "sack": ("name", "name", "number", "number"),
+    "move": ("name", "name", "number"),
+    "lift": ("name",),
+    "cord": ("name", "upper", "name", "number"),
+    "cut": ("name",),
 }
 
 
 def check_form(deed):
-    if len(deed) == 0 or deed[0] not in COUNTS or len(deed) != COUNTS[deed[0]]:
+    if len(deed) == 0 or deed[0] not in DEED_THINGS or len(deed) != 1 + len(DEED_THINGS[deed[0]]):
         raise BadDeed("a deed has a first text that is known, and as many things as belong to it")
 
 

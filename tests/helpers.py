@@ -1,5 +1,6 @@
-"""What several tests use: asking a yard, deeds of all kinds, a plain model to compare with, stacks, and plain sums."""
+"""What several tests use: asking a yard, deeds of all kinds, plain models to compare with, stacks, and plain sums."""
 
+import re
 from fractions import Fraction
 
 from dunnage import errors
@@ -38,6 +39,16 @@ def refusal(yard, deed):
         return type(error).__name__
     assert answer is None, f"{deed!r} told {answer!r}"
     return None
+
+
+def ask(call, *things):
+    """What the call tells, or ("no", name) where it is refused by the class of that name itself."""
+    try:
+        return call(*things)
+    except errors.YardError as error:
+        name = type(error).__name__
+        assert type(error) is getattr(errors, name) and type(error).__bases__ == (errors.YardError,), name
+        return ("no", name)
 
 
 def yard_of(*deeds):
@@ -197,6 +208,23 @@ class Model:
 
     def do_cord(self, name, upper, lower, place):
         self.things[name] = {"kind": "cord", "upper": upper, "lower": lower, "place": place}
+
+
+def made_of(lists):
+    """A yard just made of the things of these four lists."""
+    boards, trestles, sacks, cords = lists
+    return yard_of(
+        *[("trestle", *row) for row in trestles], *[("board", *row) for row in boards],
+        *[("sack", *row) for row in sacks], *[("cord", *row) for row in cords])
+
+
+def model_of(lists):
+    """A model of the things of these four lists."""
+    model = Model()
+    for kind, rows in zip(("board", "trestle", "sack", "cord"), lists):
+        for row in rows:
+            getattr(model, "do_" + kind)(*row)
+    return model
 
 
 def follow(test, yard, model, deed):
@@ -465,3 +493,170 @@ def told_motion(test, yard, motion):
         worth(row[1])
         worth(row[2])
     test.assertEqual([row[0] for row in motion], [row[0] for row in yard.boards()])
+
+
+# What hangs together, straight from the words of DOC.md [15] and [16].
+
+
+def own_groups(yard):
+    """Every board by itself at first; groups that an end ties together are joined until none is left."""
+    found = [{row[0]} for row in yard.boards()]
+    for what, upper, lower, place in own_ends(yard):
+        joined = [group for group in found if upper in group or lower in group]
+        if upper in set().union(*found) and lower in set().union(*found):
+            found = [group for group in found if group not in joined] + [set().union(*joined)]
+    return sorted(sorted(group) for group in found)
+
+
+def own_alone(told, names):
+    """The four lists that are left of these four, where these boards alone stay."""
+    boards, trestles, sacks, cords = told
+    return (
+        [row for row in boards if row[0] in names], trestles, [row for row in sacks if row[1] in names],
+        [row for row in cords if row[2] in names and (row[1] == "" or row[1] in names)])
+
+
+def own_drawn(told, name):
+    boards, trestles, sacks, cords = told
+    return (
+        [row for row in boards if row[0] != name], trestles, [row for row in sacks if row[1] != name],
+        [row for row in cords if name not in row[1:3]])
+
+
+# A diary written another way: its whole states, one behind another.
+
+NAME_PLACES = {
+    "trestle": [1], "board": [1], "away": [1], "along": [1], "sack": [1, 2], "move": [1, 2], "lift": [1],
+    "cord": [1, 2, 3], "cut": [1],
+}
+LENGTHS = {"trestle": 5, "board": 6, "away": 2, "along": 3, "sack": 5, "move": 4, "lift": 2, "cord": 5, "cut": 2}
+
+
+def entry_fault(day, deed):
+    """The refusal told first of what a diary does not keep, or None."""
+    if day not in range(1, 10000):
+        return "BadDay"
+    if len(deed) == 0 or LENGTHS.get(deed[0]) != len(deed):
+        return "BadDeed"
+    if any(len(str(abs(thing))) > 10 for thing in deed if isinstance(thing, int)):
+        return "BadDeed"
+    for at in NAME_PLACES[deed[0]]:
+        if re.fullmatch("[a-z]{1,8}", deed[at]) is None and (deed[0], at, deed[at]) != ("cord", 2, ""):
+            return "BadName"
+    return None
+
+
+class OwnDiary:
+    """Each method tells what a diary's tells, or ("no", name) of the refusal."""
+
+    def __init__(self):
+        self.past, self.now, self.ahead = [], ({}, 1), []
+
+    def twin(self):
+        other = OwnDiary()
+        other.past, other.now, other.ahead = list(self.past), self.now, list(self.ahead)
+        return other
+
+    def rows(self):
+        return [(number, *row) for number, row in sorted(self.now[0].items())]
+
+    def coming(self):
+        return self.now[1]
+
+    def state(self, rows, coming):
+        self.past, self.now, self.ahead = [*self.past, self.now], (rows, coming), []
+
+    def enter(self, day, deed):
+        if entry_fault(day, deed):
+            return ("no", entry_fault(day, deed))
+        number = self.now[1]
+        self.state({**self.now[0], number: (day, deed)}, number + 1)
+        return number
+
+    def strike(self, number):
+        if number not in self.now[0]:
+            return ("no", "NoEntry")
+        self.state({other: row for other, row in self.now[0].items() if other != number}, self.now[1])
+
+    def correct(self, number, day, deed):
+        if number not in self.now[0]:
+            return ("no", "NoEntry")
+        if entry_fault(day, deed):
+            return ("no", entry_fault(day, deed))
+        self.state({**self.now[0], number: (day, deed)}, self.now[1])
+
+    def back(self):
+        if not self.past:
+            return ("no", "NothingThere")
+        *self.past, self.now, self.ahead = *self.past, [self.now, *self.ahead]
+
+    def again(self):
+        if not self.ahead:
+            return ("no", "NothingThere")
+        self.past, (self.now, *self.ahead) = [*self.past, self.now], self.ahead
+
+    def model(self, day):
+        """The model of the yard of the day, and the numbers of the rows that are void there."""
+        model, void = Model(), []
+        for number, entered, deed in sorted(self.rows(), key=lambda row: (row[1], row[0])):
+            if entered <= day and model.do(deed) is not None:
+                void.append(number)
+        return model, void
+
+    def word(self, number):
+        if number not in self.now[0]:
+            return ("no", "NoEntry")
+        return "void" if number in self.model(self.now[0][number][0])[1] else "done"
+
+    def page(self):
+        rows = [" ".join("-" if thing == "" else str(thing) for thing in (number, day, *deed))
+                for number, day, deed in self.rows()]
+        return "".join(row + "\n" for row in [f"next {self.coming()}", *rows])
+
+
+def state_of(diary):
+    return diary.rows(), diary.coming()
+
+
+def follow_diary(test, diary, own, doing, *things):
+    """Do it in both; they tell the same of it, and have the same rows and next number behind it."""
+    told = ask(getattr(diary, doing), *things)
+    test.assertEqual(told, getattr(own, doing)(*things), (doing, things))
+    test.assertEqual(state_of(diary), state_of(own), (doing, things))
+    return told
+
+
+WRONG_DEEDS = [
+    (), ("",), ("fly", "a"), ("Board", "a", 1, 0, 9, 1), ("away",), ("away", "a", "b"), ("board", "a", 1, 0, 9),
+    ("board", "a", 1, 0, 9, 1, 1), ("cord", "c", "a", 1), ("enter", "a"), ("along", "a", 10**10),
+    ("along", "a", -10**10), ("board", "a", 1, 0, 9, 10**10), ("trestle", "a", 10**10, 0, 9),
+    ("trestle", "a", 1, -10**30, 9), ("trestle", "a", 1, 0, 10**10), ("sack", "a", "b", 10**10, 1),
+    ("sack", "a", "b", 1, 10**11), ("move", "a", "b", -10**10), ("cord", "a", "", "b", 10**10),
+    ("along", "A", 10**10), ("cord", "c", "", "", 10**10), ("sack", "s", "", 1, 1), ("cord", "c", "", "", 1),
+    ("cord", "", "", "b", 1), ("cord", "c", "B", "b", 1), ("cord", "c", "-", "b", 1), ("cord", "c", "", "-", 1),
+    ("move", "s", "", 1), ("move", "", "b", 1), ("away", ""), ("lift", "-"), ("cut", "abcdefghi"), ("along", "a b", 1),
+]
+FAR_DEEDS = [
+    ("along", "a", 10**10 - 1), ("along", "a", 1 - 10**10), ("board", "a", 0, 9999999999, -9999999999, 0),
+    ("trestle", "abcdefgh", -1, 10**9, -10**9), ("cord", "c", "", "b", -10**9), ("sack", "s", "s", 0, -7),
+    ("move", "z", "z", 9876543210), ("cord", "c", "c", "c", 0),
+]
+
+
+def any_doing(chance, own, names, days=(1, 2, 3, 5, 8, 300, 9999)):
+    """A name of a diary's method and what is handed to it; now and then wrong."""
+    wrong = chance.choice([0, 0, 0.05, 0.3])
+
+    def pick(good, bad):
+        return chance.choice(list(bad)) if chance.random() < wrong or not good else chance.choice(list(good))
+
+    day = pick(days, [0, -1, 10000, 10001, -10**12, 10**12])
+    number = pick(list(own.now[0]), [0, -1, own.coming(), own.coming() + 1, chance.randint(1, own.coming()), 10**12])
+    deed = pick([None] * 30 + FAR_DEEDS, WRONG_DEEDS)
+    if deed is None:
+        deed = any_deed(chance, own.model(day)[0], names)
+    doing = chance.choice(["enter"] * 7 + ["strike"] + ["correct"] * 2 + ["back"] * 2 + ["again"] * 2)
+    if doing == "correct" and number in own.now[0] and chance.random() < 0.2:
+        return doing, number, *own.now[0][number]
+    things = {"enter": (day, deed), "strike": (number,), "correct": (number, day, deed)}
+    return doing, *things.get(doing, ())
