@@ -22,13 +22,15 @@ def neighbours(yard):
 
 
 def group_of(near, name):
+    """The board and all that hang together with it, rising."""
     group = [name]
-    asked = 0
-    while asked < len(group):
-        for other in near[group[asked]]:
+    fresh = [name]
+    while fresh:
+        beside = near[fresh.pop()]
+        for other in beside:
             if other not in group:
                 group.append(other)
-        asked += 1
+                fresh.append(other)
     return sorted(group)
 
 
